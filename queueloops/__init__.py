@@ -1,0 +1,1 @@
+"""Queueloops: queues made of loops of told lengths."""

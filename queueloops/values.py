@@ -1,0 +1,21 @@
+"""What kinds of integers any value can be."""
+
+MOST_FIGURES = 9
+
+
+def is_number(value):
+    """Whether any value is an integer; a bool is none."""
+    return isinstance(value, int) and not isinstance(value, bool)
+
+
+def is_within(value, low, high):
+    """Whether any value is an integer from low to high."""
+    return is_number(value) and low <= value <= high
+
+
+def read_number(word):
+    """The number from 0 on that a word of a text tells; None if it is not written as told."""
+    if not (word.isascii() and word.isdigit()) or len(word) > MOST_FIGURES:
+        return None
+    number = int(word)
+    return number if str(number) == word else None
