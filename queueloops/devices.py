@@ -1,6 +1,6 @@
 """Devices, which are rows of lanes, and rules for them."""
 
-from queueloops.errors import BadDevice, BadNumber, BadRow, BadStages, LacksDelay
+from queueloops.errors import BadDevice, BadNumber, BadRow, BadRule, BadStages, LacksDelay
 from queueloops.values import is_number, is_within, read_number
 
 MOST_STAGES = 6
@@ -108,6 +108,12 @@ def is_rule(device, value):
     if not isinstance(value, tuple) or not 1 <= len(value) <= MOST_RULE_SIZE + 1:
         return False
     return all([is_row(device, row) and delay_through(device, row) == delay for delay, row in enumerate(value)])
+
+
+def check_rule(device, rule):
+    """Raises BadRule for what is no rule for the device."""
+    if not is_rule(device, rule):
+        raise BadRule(rule)
 
 
 def rows_by_delay(device, size):

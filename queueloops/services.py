@@ -91,20 +91,28 @@ def slot_delays(service, size, held, slot):
     return delays
 
 
+def delays_standing(service, size, script):
+    """The pair of the list of the delays at each slot, as far as slots can stand, and of what is held behind these."""
+    rows = []
+    held = 0
+    for slot in script:
+        delays = slot_delays(service, size, held, slot)
+        if delays is None:
+            break
+        rows.append(delays)
+        held = held_behind(service[0], held, delays)
+    return rows, held
+
+
 def read_script(service, size, script):
     """The pair of the list of the delays at each slot, and of what is held behind the script."""
     check_service(service)
     check_size(size)
     if not isinstance(script, tuple) or len(script) > MOST_SLOTS:
         raise BadScript(None)
-    rows = []
-    held = 0
-    for number, slot in enumerate(script):
-        delays = slot_delays(service, size, held, slot)
-        if delays is None:
-            raise BadScript(number)
-        rows.append(delays)
-        held = held_behind(service[0], held, delays)
+    rows, held = delays_standing(service, size, script)
+    if len(rows) < len(script):
+        raise BadScript(len(rows))
     return rows, held
 
 
@@ -116,10 +124,15 @@ def held_next(service, size, script):
     return held
 
 
+def packets_with(rows):
+    """(slot, delay) of each packet, by number, for the delays at each slot."""
+    return tuple([(slot, delay) for slot, delays in enumerate(rows) for delay in delays])
+
+
 def packets_of(service, size, script):
     """(slot, delay) of each packet, by number."""
     rows, _ = read_script(service, size, script)
-    return tuple([(slot, delay) for slot, delays in enumerate(rows) for delay in delays])
+    return packets_with(rows)
 
 
 def leaves_of(service, size, script):

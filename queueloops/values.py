@@ -1,4 +1,4 @@
-"""What kinds of integers any value can be."""
+"""What kinds of integers, and of rows of integers, any value can be."""
 
 MOST_FIGURES = 9
 
@@ -11,6 +11,13 @@ def is_number(value):
 def is_within(value, low, high):
     """Whether any value is an integer from low to high."""
     return is_number(value) and low <= value <= high
+
+
+def is_order(value, many):
+    """Whether any value is a tuple in which each number from 0 on, below many, stands once."""
+    if not isinstance(value, tuple) or not all([is_number(part) for part in value]):
+        return False
+    return sorted(value) == list(range(many))
 
 
 def read_number(word):

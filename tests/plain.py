@@ -1,9 +1,21 @@
 """What the tests compare the package with: plain goings through all there is, and odd values."""
 
+import unittest
 from itertools import combinations, permutations, product
 
 from queueloops.devices import Device
-from queueloops.errors import BadRow
+from queueloops.errors import BadRow, LoopError
+
+
+class Checks(unittest.TestCase):
+    def raises(self, error, value, function, *arguments):
+        """The call raises just this error with just this value."""
+        with self.assertRaises(LoopError) as caught:
+            function(*arguments)
+        self.assertIs(type(caught.exception), error)
+        self.assertEqual(caught.exception.value, value)
+        # Of equal values True and 1, and 0 and False, are told apart by how they are written.
+        self.assertEqual(repr(caught.exception.value), repr(value))
 
 
 def nested(depth, kind):
@@ -145,3 +157,176 @@ def made_script(choice, service, size, slots):
             what, more = (0 if word == "queue" else ()), leaves
         script, leaves = script + (what,), [leave for leave in more if leave >= slot]
     return script
+
+
+def all_rules(device, size):
+    """All rules of this size."""
+    rows = list(product(*[range(len(lengths)) for lengths in device.stages]))
+    by_delay = [[row for row in rows if row_sum(device, row) == delay] for delay in range(size + 1)]
+    return list(product(*by_delay))
+
+
+def row_sum(device, row):
+    return sum(lengths[lane] for lengths, lane in zip(device.stages, row))
+
+
+def made_rule(choice, device, size):
+    """A rule of the greatest size up to this one; choice, a random.Random with a seed, tells which one."""
+    rows = list(product(*[range(len(lengths)) for lengths in device.stages]))
+    rule = []
+    for delay in range(size + 1):
+        alike = [row for row in rows if row_sum(device, row) == delay]
+        if not alike:
+            break
+        rule.append(choice.choice(alike))
+    return tuple(rule)
+
+
+def going(device, rule, packets, slots):
+    """A list of (led, out, clashes, lanes ahead) for so many slots, packets being moved one slot after the other."""
+    stages, under_way, told = device.stages, {}, []
+    for slot in range(slots):
+        lanes = [[[] for _ in lengths] for lengths in stages]
+        for packet, (stage, lane, left) in sorted(under_way.items()):
+            lanes[stage][lane].append((packet, left))
+        ready = {packet: stage + 1 for packet, (stage, _, left) in under_way.items() if left == 0}
+        ready.update({packet: 0 for packet, (came, _) in enumerate(packets) if came == slot})
+        led, out = [], []
+        for packet, stage in ready.items():
+            under_way.pop(packet, None)
+            row = rule[packets[packet][1]]
+            while stage < len(stages):
+                led.append((stage, row[stage], packet))
+                if stages[stage][row[stage]] > 0:
+                    under_way[packet] = (stage, row[stage], stages[stage][row[stage]])
+                    break
+                stage += 1
+            else:
+                out.append(packet)
+        clashes = [one + (other[2],) for one in led for other in led if one[:2] == other[:2] and one[2] < other[2]]
+        told.append((tuple(sorted(led)), tuple(sorted(out)), tuple(sorted(clashes)),
+                     tuple(tuple(tuple(held) for held in stage) for stage in lanes)))
+        under_way = {packet: (stage, lane, left - 1) for packet, (stage, lane, left) in under_way.items()}
+    return told
+
+
+def plain_clashes(device, rule, packets):
+    """All clashes of these packets."""
+    slots = max([came for came, _ in packets], default=0) + len(rule) + 1
+    told = going(device, rule, packets, slots)
+    return tuple((slot,) + clash for slot, (_, _, clashes, _) in enumerate(told) for clash in clashes)
+
+
+def pairs_by_scripts(service, size, slots):
+    """For each pair of a script of at most so many slots the fewest slots of such a script."""
+    fewest = {}
+    for many in range(slots + 1):
+        for script in all_scripts(service, size, many):
+            packets = plain_packets(service, size, script)
+            for (slot, ahead), (later, behind) in combinations(packets, 2):
+                fewest.setdefault((ahead, behind, later - slot), many)
+    return fewest
+
+
+def pairs_by_waits(most, size, later):
+    """For each pair of a queue, up to so many slots apart, the fewest slots, by going through what can wait."""
+    first, reached = {0: 0}, [0]
+    for waits in reached:
+        for count in range(most + 1):
+            behind = max(waits + count - 1, 0)
+            if waits + count - 1 <= size and behind not in first:
+                first[behind] = first[waits] + 1
+                reached.append(behind)
+    fewest = {}
+    for waits, slots in first.items():
+        for count in range(1, min(most, size - waits + 1) + 1):
+            for ahead in range(waits, waits + count):
+                for behind in range(ahead + 1, waits + count):
+                    keep_least(fewest, (ahead, behind, 0), slots + 1)
+                ways = {waits + count - 1}
+                for apart in range(1, later + 1):
+                    for way in ways:
+                        for behind in range(way, min(size, way + most - 1) + 1):
+                            keep_least(fewest, (ahead, behind, apart), slots + apart + 1)
+                    ways = {max(way + more - 1, 0) for way in ways for more in range(most + 1) if way + more - 1 <= size}
+    return fewest
+
+
+def keep_least(table, key, number):
+    table[key] = min(number, table.get(key, number))
+
+
+def plain_can_be(service, size, pair):
+    """Whether the pair can be, for small sizes; by the leaves alone where delays are told."""
+    word, most = service
+    ahead, behind, later = pair
+    if word == "queue":
+        if (most, size) not in QUEUE_PAIRS or QUEUE_PAIRS[most, size][0] < later:
+            QUEUE_PAIRS[most, size] = (max(later, size), pairs_by_waits(most, size, max(later, size)))
+        return pair in QUEUE_PAIRS[most, size][1]
+    if later == 0 and most == 1:
+        return False
+    return ahead < later + behind if word == "order" else ahead != later + behind
+
+
+QUEUE_PAIRS = {}
+
+
+def meeting_stages(device, rule, pair):
+    """(stages, clashing stages) of two packets that are this pair, as they go along the lanes."""
+    ahead, behind, later = pair
+    led = going(device, rule, [(0, ahead), (later, behind)], later + max(ahead, behind) + 1)
+    both = [(stage, lane == other_lane) for row, _, _, _ in led for stage, lane, packet in row if packet == 0
+            for other_stage, other_lane, other in row if other == 1 and other_stage == stage]
+    return tuple(sorted(stage for stage, _ in both)), tuple(sorted(stage for stage, one_lane in both if one_lane))
+
+
+def plain_clash_pairs(device, rule, service):
+    """All (x, y, d, stage) that can be and clash, for small sizes."""
+    size = len(rule) - 1
+    return tuple(pair + (stage,) for pair in product(range(size + 1), range(size + 1), range(size + 1))
+                 if plain_can_be(service, size, pair) for stage in meeting_stages(device, rule, pair)[1])
+
+
+def fewest_to_clash(device, rule, service):
+    """The fewest slots of a script that has a clash, by going through all that can be under way; None if none has."""
+    size, known = len(rule) - 1, {}
+
+    def clash(ahead, behind, later):
+        key = (ahead, behind, later)
+        if key not in known:
+            known[key] = bool(meeting_stages(device, rule, key)[1])
+        return known[key]
+
+    reached, seen, slots = [()], {()}, 0
+    while reached:
+        slots += 1
+        behind = []
+        for under_way in reached:
+            for delays in ways_on(service, size, under_way):
+                new = [(0, delay) for delay in delays]
+                if any(clash(ahead, delay, age) for age, ahead in under_way for delay in delays):
+                    return slots
+                if any(clash(ahead, delay, 0) for ahead, delay in combinations(delays, 2)):
+                    return slots
+                later = tuple(sorted((age + 1, delay) for age, delay in list(under_way) + new if delay > age))
+                if later not in seen:
+                    seen.add(later)
+                    behind.append(later)
+        reached = behind
+    return None
+
+
+def ways_on(service, size, under_way):
+    """The delays of the packets of each slot that can stand, if these (age, delay) are under way."""
+    word, most = service
+    taken = sorted(delay - age for age, delay in under_way)
+    first = taken[-1] + 1 if taken else 0
+    for many in range(most + 1):
+        if word == "queue":
+            delays = tuple(range(first, first + many))
+            yield from [delays] if all(delay <= size for delay in delays) else []
+        elif word == "order":
+            yield from combinations(range(first, size + 1), many)
+        else:
+            yield from permutations([delay for delay in range(size + 1) if delay not in taken], many)

@@ -2,7 +2,7 @@ import random
 import unittest
 from itertools import product
 
-from plain import nested, odd_values
+from plain import Checks, nested, odd_values
 from queueloops.devices import (Device, delays_of, device_text, is_rule, least_rule, row_delay, rows_for, rows_of,
                                 rules_many)
 from queueloops.errors import BadDevice, BadNumber, BadRow, BadStages, LacksDelay, LoopError
@@ -17,16 +17,6 @@ TEXTS = [
     "stage 3 0 1\nstage 7 2\nstage 0 1 2 3",
     "\n".join(["stage 0 1 2 3"] * 6),
 ]
-
-
-class Checks(unittest.TestCase):
-    def raises(self, error, value, function, *arguments):
-        """The call raises just this error with just this value."""
-        with self.assertRaises(LoopError) as caught:
-            function(*arguments)
-        self.assertIs(type(caught.exception), error)
-        self.assertIs(type(caught.exception.value), type(value))
-        self.assertEqual(caught.exception.value, value)
 
 
 class DeviceTest(Checks):

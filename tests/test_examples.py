@@ -34,6 +34,60 @@ EXAMPLES["services"] = r"""
 [21, 8, 5]
 """
 
+EXAMPLES["runs"] = r"""
+>>> from queueloops.devices import Device
+>>> from queueloops.runs import clashes_of, lanes_at, routes, Run
+>>> device, rule = Device('stage 0 1\nstage 0 2'), ((0, 0), (1, 0), (0, 1), (1, 1))
+>>> [routes(device, rule, ('queue', 2), (2, 2, 1)), clashes_of(device, rule, ('queue', 2), (2, 2, 1))]
+[((0, 0), (0, 1), (1, 2), (1, 1), (2, 2)), ()]
+>>> lanes_at(device, rule, ('queue', 2), (2, 2, 1), 2)
+(((), ((2, 0),)), ((), ((3, 1),)))
+>>> clashes_of(device, rule, ('any', 2), ((0, 2), (), (1,)))
+((0, 0, 0, 0, 1),)
+>>> run = Run(device, rule, ('queue', 2))
+>>> [run.go_on(2), run.go_on(2), run.slot, run.lanes]
+[(((0, 0, 0), (0, 1, 1), (1, 0, 0)), (0,), ()), (((0, 0, 3), (0, 1, 2), (1, 0, 1), (1, 1, 3)), (1,), ()), 2, (((), ((2, 0),)), ((), ((3, 1),)))]
+>>> [run.go_on(0), run.go_on(0), run.script]
+[(((1, 0, 2),), (2,), ()), ((), (3,), ()), (2, 2, 0, 0)]
+"""
+
+EXAMPLES["tables"] = r"""
+>>> from queueloops.devices import Device
+>>> from queueloops.pairs import can_be, pair_script
+>>> from queueloops.tables import clash_pairs, least_clash, meets, safe_size, serves
+>>> two = ('queue', 2)
+>>> [can_be(two, 5, pair) for pair in ((2, 4, 1), (2, 5, 1), (3, 1, 1), (0, 0, 1), (1, 2, 0), (2, 1, 0))]
+[True, False, False, True, True, False]
+>>> [can_be(('queue', 1), 5, (1, 1, 1)), can_be(('order', 1), 5, (1, 4, 0)), can_be(('any', 1), 5, (4, 1, 1)), can_be(('any', 2), 5, (4, 1, 3))]
+[False, False, True, False]
+>>> pair_script(two, 5, (2, 4, 1))
+((2, 2, 2, 2), 4, 7)
+>>> device, rule = Device('stage 0 1\nstage 0 2'), ((0, 0), (1, 0), (0, 1), (1, 1))
+>>> [meets(device, rule, (1, 2, 1)), meets(device, rule, (0, 2, 0)), meets(device, rule, (3, 3, 2))]
+[(1,), (0, 1), ()]
+>>> [serves(device, rule, two), clash_pairs(device, rule, ('queue', 3)), least_clash(device, rule, ('queue', 3)), safe_size(device, rule, ('queue', 3))]
+[True, ((0, 2, 0, 0), (1, 3, 0, 0)), (3,), 1]
+>>> [clash_pairs(device, rule, ('any', 2)), serves(device, rule, ('any', 1)), safe_size(device, rule, two)]
+[((0, 2, 0, 0), (1, 3, 0, 0), (2, 0, 0, 0), (3, 1, 0, 0)), True, 3]
+"""
+
+EXAMPLES["figures"] = r"""
+>>> from queueloops.devices import Device
+>>> from queueloops.figures import figures_clash, figures_device, figures_of, figures_rule, figures_serve, moved_device, moved_rule
+>>> from queueloops.tables import serves
+>>> [figures_device((2, 3)).text, figures_rule((2, 3)), figures_of((2, 3, 2), 9)]
+['stage 0 1\nstage 0 2 4', ((0, 0), (1, 0), (0, 1), (1, 1), (0, 2), (1, 2)), (1, 1, 1)]
+>>> [figures_serve((3, 2), ('queue', 3)), figures_serve((2, 3), ('queue', 3)), figures_serve((2,) * 40, ('queue', 2))]
+[True, False, True]
+>>> [figures_serve((4,), ('any', 4)), figures_clash((4,), ('any', 4)), len(figures_clash((2, 3), ('queue', 3)))]
+[True, None, 4]
+>>> device, rule = Device('stage 0 1\nstage 0 2'), ((0, 0), (1, 0), (0, 1), (1, 1))
+>>> [moved_device(device, (1, 0)).text, moved_rule(device, rule, (1, 0))]
+['stage 0 2\nstage 0 1', ((0, 0), (0, 1), (1, 0), (1, 1))]
+>>> [serves(device, rule, ('queue', 2)), serves(moved_device(device, (1, 0)), moved_rule(device, rule, (1, 0)), ('queue', 2))]
+[True, False]
+"""
+
 
 class ExamplesTest(unittest.TestCase):
     def test_examples(self):

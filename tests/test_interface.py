@@ -7,6 +7,7 @@ import os
 import unittest
 
 from queueloops.devices import Device
+from queueloops.runs import Run
 
 PACKAGE = os.path.join(os.path.dirname(os.path.dirname(os.path.abspath(__file__))), "queueloops")
 
@@ -34,10 +35,38 @@ FUNCTIONS = {
         "waiting": ["counts"],
         "scripts_many": ["service", "size", "slots"],
     },
+    "runs": {
+        "routes": ["device", "rule", "service", "script"],
+        "clashes_of": ["device", "rule", "service", "script"],
+        "lanes_at": ["device", "rule", "service", "script", "slot"],
+    },
+    "pairs": {
+        "can_be": ["service", "size", "pair"],
+        "pair_script": ["service", "size", "pair"],
+    },
+    "tables": {
+        "meets": ["device", "rule", "pair"],
+        "clash_pairs": ["device", "rule", "service"],
+        "serves": ["device", "rule", "service"],
+        "least_clash": ["device", "rule", "service"],
+        "shows_least_clash": ["device", "rule", "service", "value"],
+        "safe_size": ["device", "rule", "service"],
+    },
+    "figures": {
+        "figures_device": ["bases"],
+        "figures_of": ["bases", "number"],
+        "figures_rule": ["bases"],
+        "figures_serve": ["bases", "service"],
+        "figures_clash": ["bases", "service"],
+        "moved_device": ["device", "order"],
+        "moved_rule": ["device", "rule", "order"],
+    },
 }
 
-CLASSES = {"errors": ERRORS, "devices": ["Device"], "services": []}
-METHODS = {"Device": ["__init__", "__len__", "__eq__"]}
+CLASSES = {"errors": ERRORS, "devices": ["Device"], "services": [], "runs": ["Run"], "pairs": [], "tables": [],
+           "figures": []}
+METHODS = {"Device": {"__init__": ["self", "text"], "__len__": ["self"], "__eq__": ["self", "other"]},
+           "Run": {"__init__": ["self", "device", "rule", "service"], "go_on": ["self", "who"], "copy": ["self"]}}
 
 
 def tree_of(module):
@@ -68,15 +97,28 @@ class InterfaceTest(unittest.TestCase):
             self.assertEqual(sorted(defined), sorted(classes))
 
     def test_methods_are_defined_in_their_classes(self):
-        for node in tree_of("devices").body:
-            if isinstance(node, ast.ClassDef):
-                defined = [each.name for each in node.body if isinstance(each, ast.FunctionDef)]
-                for name in METHODS[node.name]:
-                    self.assertIn(name, defined)
+        for module in ("devices", "runs"):
+            for node in tree_of(module).body:
+                if isinstance(node, ast.ClassDef):
+                    defined = {each.name: each for each in node.body if isinstance(each, ast.FunctionDef)}
+                    for name, parameters in METHODS[node.name].items():
+                        self.assertEqual([each.arg for each in defined[name].args.args], parameters)
 
     def test_device_takes_its_text_by_name(self):
         self.assertEqual(list(inspect.signature(Device).parameters), ["text"])
         self.assertEqual(Device(text="stage 0 1"), Device("stage 0 1"))
+
+    def test_run_takes_its_parameters_by_name(self):
+        self.assertEqual(list(inspect.signature(Run).parameters), ["device", "rule", "service"])
+        run = Run(service=("any", 1), rule=((0,),), device=Device("stage 0 1"))
+        self.assertEqual(run.go_on(who=()), ((), (), ()))
+
+    def test_attributes_are_set_when_objects_are_created(self):
+        objects = {"text stages": Device("stage 0 1"),
+                   "slot script lanes": Run(Device("stage 0 1"), ((0,),), ("any", 1))}
+        for names, thing in objects.items():
+            for name in names.split():
+                self.assertIn(name, vars(thing))
 
 
 if __name__ == "__main__":

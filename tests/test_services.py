@@ -1,11 +1,10 @@
 import random
 import unittest
 
-from plain import (ALL_SERVICES, all_scripts, all_slots, count_scripts, is_script, made_script, nested, odd_values,
-                   plain_packets)
+from plain import (ALL_SERVICES, Checks, all_scripts, all_slots, count_scripts, is_script, made_script, nested,
+                   odd_values, plain_packets)
 from queueloops.devices import Device
-from queueloops.errors import (BadCounts, BadNumber, BadScript, BadService, BadSize, BadSlot, LoopError, TooGreat,
-                               TooMany)
+from queueloops.errors import BadCounts, BadNumber, BadScript, BadService, BadSize, BadSlot, TooGreat, TooMany
 from queueloops.services import fits, is_service, leaves_of, led_on, packets_of, scripts_many, waiting
 
 QUEUE, ORDER, ANY = ("queue", 2), ("order", 2), ("any", 2)
@@ -20,15 +19,7 @@ BAD_SIZES = odd_values() + [-1, 401, 10 ** 39, (0,), (), (1, 2)]
 NO_TUPLES = [value for value in odd_values() if not isinstance(value, tuple)] + [0, 1, [], [(0,)], [()]]
 
 
-class Checks(unittest.TestCase):
-    def raises(self, error, value, function, *arguments):
-        """The call raises just this error with just this value."""
-        with self.assertRaises(LoopError) as caught:
-            function(*arguments)
-        self.assertIs(type(caught.exception), error)
-        self.assertIs(type(caught.exception.value), type(value))
-        self.assertEqual(caught.exception.value, value)
-
+class ScriptChecks(Checks):
     def all_raise(self, error, value, service, size, script):
         """All functions of a script raise this."""
         self.raises(error, value, packets_of, service, size, script)
@@ -37,7 +28,7 @@ class Checks(unittest.TestCase):
         self.raises(error, value, led_on, service, size, script, NOTHING.get(service[0], 0))
 
 
-class ServiceTest(Checks):
+class ServiceTest(ScriptChecks):
     def test_all_services(self):
         self.assertEqual(len(ALL_SERVICES), 12)
         for service in ALL_SERVICES:
@@ -67,7 +58,7 @@ class ServiceTest(Checks):
                 self.raises(BadSize, value, scripts_many, ANY, value, 1)
 
 
-class SequenceTest(Checks):
+class SequenceTest(ScriptChecks):
     def test_errors_come_in_the_order_of_the_parameters(self):
         bad = ("queue", 9)
         for function, rest in ((packets_of, ()), (leaves_of, ()), (fits, ()), (led_on, (None,))):
@@ -103,7 +94,7 @@ class SequenceTest(Checks):
         self.assertEqual(scripts_many(slots=1, size=1, service=ANY), 5)
 
 
-class ScriptTest(Checks):
+class ScriptTest(ScriptChecks):
     def test_what_is_no_tuple(self):
         for value in NO_TUPLES:
             for service in ALL_SERVICES:
@@ -214,7 +205,7 @@ class ScriptTest(Checks):
         self.assertEqual([script, slot], [[[0], [1]], [0, 1]])
 
 
-class PlainTest(Checks):
+class PlainTest(ScriptChecks):
     """The package beside a plain going slot by slot."""
 
     def check(self, service, size, script):
@@ -276,7 +267,7 @@ class PlainTest(Checks):
             self.assertEqual(leaves, sorted(slot + delay for slot, delay in packets))
 
 
-class ForAllTest(Checks):
+class ForAllTest(ScriptChecks):
     """The paragraph FOR ALL services, sizes and scripts."""
 
     def scripts(self):
@@ -325,7 +316,7 @@ class ForAllTest(Checks):
                     self.assertEqual(left, len([t for t, x in packets if t <= slot < t + x]))
 
 
-class WaitingTest(Checks):
+class WaitingTest(ScriptChecks):
     def test_counts(self):
         self.assertEqual(waiting(()), ())
         self.assertEqual(waiting((0, 0)), (0, 0))
@@ -358,7 +349,7 @@ class WaitingTest(Checks):
                 self.raises(BadCounts, value, waiting, value)
 
 
-class ScriptsManyTest(Checks):
+class ScriptsManyTest(ScriptChecks):
     def test_beside_all_scripts(self):
         for service in ALL_SERVICES:
             for size, slots in ((0, 4), (1, 3), (2, 2), (3, 2 if service[1] < 3 else 1)):

@@ -1,7 +1,8 @@
 import unittest
+from itertools import permutations
 
 from plain import odd_values
-from queueloops.values import is_number, is_within, read_number
+from queueloops.values import is_number, is_order, is_within, read_number
 
 
 class ValuesTest(unittest.TestCase):
@@ -15,6 +16,16 @@ class ValuesTest(unittest.TestCase):
         self.assertEqual([is_within(value, 2, 4) for value in (1, 2, 3, 4, 5)], [False, True, True, True, False])
         for value in odd_values():
             self.assertIs(is_within(value, 0, 400), False)
+
+    def test_orders(self):
+        for many in range(5):
+            for order in permutations(range(many)):
+                self.assertIs(is_order(order, many), True)
+                self.assertIs(is_order(list(order), many), False)
+                self.assertIs(is_order(order, many + 1), False)
+                self.assertIs(is_order(order + (many,), many), False)
+        for value in odd_values() + [(0, 0), (1, 1), (1, 2), (-1, 0), (False, 1), (0, True), (0, None), (0, 1.0)]:
+            self.assertIs(is_order(value, 2), False)
 
     def test_numbers_in_texts(self):
         for number in (0, 1, 9, 10, 100, 1000000, 999999999):
