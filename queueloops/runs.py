@@ -1,6 +1,7 @@
 """Runs: where each packet is at each slot, and which ones clash.
 
-Packets that are under way are told as (packet, slot, delay): its number, when it came, its delay.
+The way of a packet is told as (packet, row, times): its number, its row, and the slots at which
+it is led into its lane of each stage, with the one at which it is out as the last of them.
 """
 
 from queueloops.devices import check_rule
@@ -11,38 +12,40 @@ from queueloops.values import is_within
 LAST_SLOT = 1000000
 
 
-def offsets_of(device, row):
-    """How many slots behind its own one a packet of this row is led into each stage, and is out at last."""
-    offsets = [0]
+def times_of(device, row, slot):
+    """When a packet of this row that comes at a slot is led into each stage, and is out at last."""
+    times = [slot]
     for lengths, lane in zip(device.stages, row):
-        offsets.append(offsets[-1] + lengths[lane])
-    return offsets
+        times.append(times[-1] + lengths[lane])
+    return tuple(times)
 
 
-def route_of(device, row, slot):
-    """The slots at which a packet of this row that comes at a slot is led into its lanes."""
-    return tuple([slot + offset for offset in offsets_of(device, row)[:-1]])
+def ways_of(device, rule, packets, first):
+    """The ways of packets told as (slot, delay), whose numbers begin with first."""
+    ways = []
+    for place, (slot, delay) in enumerate(packets):
+        row = rule[delay]
+        ways.append((first + place, row, times_of(device, row, slot)))
+    return tuple(ways)
 
 
-def packets_by(device, rule, service, script):
-    """(slot, delay) of each packet of a script for the size of the rule."""
+def script_ways(device, rule, service, script):
+    """The ways of all packets of a script for the size of the rule."""
     check_rule(device, rule)
-    return packets_of(service, len(rule) - 1, script)
+    return ways_of(device, rule, packets_of(service, len(rule) - 1, script), 0)
 
 
 def routes(device, rule, service, script):
     """For each packet the slots at which it is led into its lanes."""
-    packets = packets_by(device, rule, service, script)
-    return tuple([route_of(device, rule[delay], slot) for slot, delay in packets])
+    return tuple([times[:-1] for _, _, times in script_ways(device, rule, service, script)])
 
 
-def all_led(device, rule, packets):
+def all_led(ways):
     """(slot, stage, lane, packet) for each lane into which each of the packets is led, ascending."""
     led = []
-    for number, (slot, delay) in enumerate(packets):
-        row = rule[delay]
-        for stage, at in enumerate(route_of(device, row, slot)):
-            led.append((at, stage, row[stage], number))
+    for packet, row, times in ways:
+        for stage, lane in enumerate(row):
+            led.append((times[stage], stage, lane, packet))
     return sorted(led)
 
 
@@ -50,7 +53,7 @@ def clashes_among(led):
     """A clash for each two of what is led that differ in their last part alone, the packet; both ascend."""
     clashes = []
     packets = []
-    place = None
+    place = ()
     for leading in led:
         if leading[:-1] != place:
             place = leading[:-1]
@@ -63,41 +66,30 @@ def clashes_among(led):
 
 def clashes_of(device, rule, service, script):
     """(slot, stage, lane, one, other) for all clashes."""
-    packets = packets_by(device, rule, service, script)
-    return clashes_among(all_led(device, rule, packets))
+    return clashes_among(all_led(script_ways(device, rule, service, script)))
 
 
-def lanes_with(device, rule, under_way, slot):
-    """What is in the lanes ahead of a slot."""
+def lanes_with(device, ways, slot):
+    """What is in the lanes ahead of a slot; the numbers of the packets ascend."""
     lanes = [[[] for _ in lengths] for lengths in device.stages]
-    for packet, came, delay in under_way:
-        row = rule[delay]
-        offsets = offsets_of(device, row)
+    for packet, row, times in ways:
         for stage, lane in enumerate(row):
-            left = came + offsets[stage + 1] - slot
-            if came + offsets[stage] < slot and left >= 0:
-                lanes[stage][lane].append((packet, left))
+            if times[stage] < slot <= times[stage + 1]:
+                lanes[stage][lane].append((packet, times[stage + 1] - slot))
     return tuple([tuple([tuple(held) for held in places]) for places in lanes])
 
 
 def lanes_at(device, rule, service, script, slot):
     """What is in the lanes ahead of a slot, when the packets of a script come."""
-    packets = packets_by(device, rule, service, script)
+    ways = script_ways(device, rule, service, script)
     if not is_within(slot, 0, LAST_SLOT):
         raise BadNumber(slot)
-    under_way = [(number, came, delay) for number, (came, delay) in enumerate(packets)]
-    return lanes_with(device, rule, under_way, slot)
+    return lanes_with(device, ways, slot)
 
 
-def led_at(device, rule, under_way, slot):
+def led_at(ways, slot):
     """(stage, lane, packet) for each lane into which a packet is led at a slot, ascending."""
-    led = []
-    for packet, came, delay in under_way:
-        row = rule[delay]
-        for stage, at in enumerate(route_of(device, row, came)):
-            if at == slot:
-                led.append((stage, row[stage], packet))
-    return tuple(sorted(led))
+    return tuple([leading[1:] for leading in all_led(ways) if leading[0] == slot])
 
 
 class Run:
@@ -114,7 +106,7 @@ class Run:
         self.held = 0
         self.many = 0
         self.under_way = ()
-        self.lanes = lanes_with(device, rule, (), 0)
+        self.lanes = lanes_with(device, (), 0)
 
     def go_on(self, who):
         """Does the slot that comes next; the triple of what is led, what is out, and the clashes."""
@@ -122,16 +114,16 @@ class Run:
         if delays is None or self.slot == MOST_SLOTS:
             raise BadSlot(who)
         slot = self.slot
-        new = tuple([(self.many + place, slot, delay) for place, delay in enumerate(delays)])
-        under_way = self.under_way + new
-        led = led_at(self.device, self.rule, under_way, slot)
-        out = tuple([packet for packet, came, delay in under_way if came + delay == slot])
+        new = [(slot, delay) for delay in delays]
+        ways = self.under_way + ways_of(self.device, self.rule, new, self.many)
+        led = led_at(ways, slot)
+        out = tuple([packet for packet, _, times in ways if times[-1] == slot])
         self.slot = slot + 1
         self.script = self.script + (who,)
         self.held = held_behind(self.service[0], self.held, delays)
         self.many = self.many + len(delays)
-        self.under_way = tuple([part for part in under_way if part[1] + part[2] > slot])
-        self.lanes = lanes_with(self.device, self.rule, self.under_way, self.slot)
+        self.under_way = tuple([way for way in ways if way[2][-1] > slot])
+        self.lanes = lanes_with(self.device, self.under_way, self.slot)
         return led, out, clashes_among(led)
 
     def copy(self):

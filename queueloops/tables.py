@@ -6,7 +6,7 @@ the pairs that can be and clash, which are finitely many, decide about all scrip
 
 from queueloops.devices import check_rule
 from queueloops.pairs import check_pair, fewest_slots, is_possible, pair_script
-from queueloops.runs import all_led, clashes_among, offsets_of
+from queueloops.runs import all_led, clashes_among, times_of, ways_of
 from queueloops.services import check_service, delays_standing, packets_with
 
 
@@ -15,28 +15,28 @@ def meets(device, rule, pair):
     check_rule(device, rule)
     check_pair(len(rule) - 1, pair)
     ahead, behind, later = pair
-    ahead_at = offsets_of(device, rule[ahead])
-    behind_at = offsets_of(device, rule[behind])
-    return tuple([stage for stage in range(len(device)) if ahead_at[stage] == later + behind_at[stage]])
+    ahead_times = times_of(device, rule[ahead], 0)
+    behind_times = times_of(device, rule[behind], later)
+    return tuple([stage for stage in range(len(device)) if ahead_times[stage] == behind_times[stage]])
 
 
 def rows_led(device, rule):
-    """For each (stage, lane) the list of (delay, offset) of all rows that lead into it."""
+    """For each (stage, lane) a (delay, time) of each row that leads into it: a packet is led there so much later."""
     led = {}
     for delay, row in enumerate(rule):
-        offsets = offsets_of(device, row)
+        times = times_of(device, row, 0)
         for stage, lane in enumerate(row):
-            led.setdefault((stage, lane), []).append((delay, offsets[stage]))
+            led.setdefault((stage, lane), []).append((delay, times[stage]))
     return led
 
 
 def pairs_led(service, led):
-    """All pairs that can be and meet in one lane, into which these (delay, offset) are led."""
+    """All pairs that can be and meet in one lane, into which these (delay, time) are led."""
     found = []
-    for ahead, ahead_at in led:
-        for behind, behind_at in led:
-            pair = (ahead, behind, ahead_at - behind_at)
-            if ahead_at >= behind_at and is_possible(service, pair):
+    for ahead, ahead_time in led:
+        for behind, behind_time in led:
+            pair = (ahead, behind, ahead_time - behind_time)
+            if ahead_time >= behind_time and is_possible(service, pair):
                 found.append(pair)
     return found
 
@@ -68,20 +68,20 @@ def least_clash(device, rule, service):
     found = clash_pairs(device, rule, service)
     if not found:
         return None
-    script, _, _ = pair_script(service, len(rule) - 1, shortest(service, found))
-    return script
+    return pair_script(service, len(rule) - 1, shortest(service, found))[0]
 
 
 def shows_least_clash(device, rule, service, value):
     """Whether any value is what least_clash may return."""
     found = clash_pairs(device, rule, service)
-    if not found or value is None:
-        return not found and value is None
+    if not found:
+        return value is None
     slots = fewest_slots(service, shortest(service, found))
     if not isinstance(value, tuple) or len(value) != slots:
         return False
     rows, _ = delays_standing(service, len(rule) - 1, value)
-    return len(rows) == slots and len(clashes_among(all_led(device, rule, packets_with(rows)))) > 0
+    ways = ways_of(device, rule, packets_with(rows), 0)
+    return len(rows) == slots and len(clashes_among(all_led(ways))) > 0
 
 
 def safe_size(device, rule, service):
