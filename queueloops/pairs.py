@@ -17,7 +17,7 @@ def check_pair(size, pair):
 
 
 def is_possible(service, pair):
-    """Whether a pair, of any three integers from 0 on, can be in the service; only its delays need a size."""
+    """Whether a pair of any integers from 0 on can be in the service, with any size that its delays do not exceed."""
     word, most = service
     ahead, behind, later = pair
     if word == "any":
@@ -39,7 +39,7 @@ def can_be(service, size, pair):
 
 
 def waits_first(most, pair):
-    """How many packets of a queue have to wait ahead of the slot of the pair's first packet."""
+    """How many packets of a queue at least wait ahead of the slot of the pair's first packet, if the pair can be."""
     ahead, behind, later = pair
     return max(0, ahead - (most - 1), behind - (later + 1) * (most - 1))
 
@@ -58,7 +58,7 @@ def fewest_slots(service, pair):
 
 
 def queue_waits(service, pair):
-    """The fewest packets of a queue that wait ahead of each slot of such a script, and behind its last one."""
+    """The fewest that wait ahead of each slot of a shortest script for a pair of a queue, and behind its last slot."""
     most = service[1]
     ahead, behind, later = pair
     first = slots_first(service, pair)
