@@ -71,6 +71,11 @@ def least_clash(device, rule, service):
     return pair_script(service, len(rule) - 1, shortest(service, found))[0]
 
 
+def has_clash(device, rule, rows):
+    """Whether two packets clash, for the delays at each slot."""
+    return len(clashes_among(all_led(ways_of(device, rule, packets_with(rows), 0)))) > 0
+
+
 def shows_least_clash(device, rule, service, value):
     """Whether any value is what least_clash may return."""
     found = clash_pairs(device, rule, service)
@@ -80,8 +85,7 @@ def shows_least_clash(device, rule, service, value):
     if not isinstance(value, tuple) or len(value) != slots:
         return False
     rows, _ = delays_standing(service, len(rule) - 1, value)
-    ways = ways_of(device, rule, packets_with(rows), 0)
-    return len(rows) == slots and len(clashes_among(all_led(ways))) > 0
+    return len(rows) == slots and has_clash(device, rule, rows)
 
 
 def safe_size(device, rule, service):

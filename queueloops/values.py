@@ -1,6 +1,7 @@
-"""What kinds of integers, and of rows of integers, any value can be."""
+"""What kinds of integers, of rows of integers, and of names any value can be."""
 
 MOST_FIGURES = 9
+MOST_LETTERS = 8
 
 
 def is_number(value):
@@ -18,6 +19,13 @@ def is_order(value, many):
     if not isinstance(value, tuple) or not all([is_number(part) for part in value]):
         return False
     return sorted(value) == list(range(many))
+
+
+def is_name(value):
+    """Whether any value is a name: one to eight letters a to z."""
+    if not isinstance(value, str) or not 1 <= len(value) <= MOST_LETTERS:
+        return False
+    return all(["a" <= letter <= "z" for letter in value])
 
 
 def read_number(word):

@@ -1,10 +1,13 @@
 """What the tests compare the package with: plain goings through all there is, and odd values."""
 
+import re
 import unittest
 from itertools import combinations, permutations, product
 
-from queueloops.devices import Device
-from queueloops.errors import BadRow, LoopError
+from queueloops.devices import Device, is_rule, least_rule
+from queueloops.errors import (BadDeed, BadName, BadRow, BadRule, BadSlots, Held, LoopError, NoNote, NothingToRedo,
+                               NothingToUndo, NoThing, WrongKind)
+from queueloops.runs import Run
 
 
 class Checks(unittest.TestCase):
@@ -330,3 +333,182 @@ def ways_on(service, size, under_way):
             yield from combinations(range(first, size + 1), many)
         else:
             yield from permutations([delay for delay in range(size + 1) if delay not in taken], many)
+
+
+PARTS = {"device": 2, "rule": 3, "least": 3, "run": 3, "slots": 2, "copy": 2, "drop": 1}
+
+
+def plain_is_name(value):
+    return type(value) is str and re.fullmatch("[a-z]{1,8}", value) is not None
+
+
+def plain_do(things, deed):
+    """Does a deed with a dict of things, each a list [kind, device, worth]; raises what the document tells."""
+    if type(deed) is not tuple or not deed or type(deed[0]) is not str or len(deed) - 1 != PARTS.get(deed[0], -1):
+        raise BadDeed(deed)
+
+    def find(name, kinds):
+        if type(name) is not str or name not in things:
+            raise NoThing(name)
+        if things[name][0] not in kinds:
+            raise WrongKind(name)
+        return things[name]
+
+    def new(name):
+        if not plain_is_name(name):
+            raise BadName(name)
+        if name in things:
+            raise Held(name)
+
+    word, name = deed[:2]
+    if word in ("device", "rule", "least", "run"):
+        new(name)
+    if word == "device":
+        things[name] = ["device", Device(deed[2]), Device(deed[2])]
+    elif word == "rule":
+        device = find(deed[2], ["device"])[1]
+        if not is_rule(device, deed[3]):
+            raise BadRule(deed[3])
+        things[name] = ["rule", device, deed[3]]
+    elif word == "least":
+        device = find(deed[2], ["device"])[1]
+        things[name] = ["rule", device, least_rule(device, deed[3])]
+    elif word == "run":
+        device, rule = find(deed[2], ["rule"])[1:]
+        things[name] = ["run", device, Run(device, rule, deed[3])]
+    elif word == "slots":
+        run = find(name, ["run"])[2].copy()
+        if type(deed[2]) is not tuple or not 1 <= len(deed[2]) <= 100:
+            raise BadSlots(deed[2])
+        for who in deed[2]:
+            run.go_on(who)
+        things[name][2] = run
+    elif word == "copy":
+        kind, device, worth = find(name, ["device", "rule", "run"])
+        new(deed[2])
+        things[deed[2]] = [kind, device, worth.copy() if kind == "run" else worth]
+    else:
+        find(name, ["device", "rule", "run"])
+        del things[name]
+
+
+class PlainDesk:
+    """A desk that does all deeds that stand anew, whenever it is asked."""
+
+    def __init__(self):
+        self.deeds, self.many, self.noted = [], 0, {}
+
+    def things(self):
+        things = {}
+        for deed in self.deeds[:self.many]:
+            plain_do(things, deed)
+        return things
+
+    def lead(self, deed):
+        plain_do(self.things(), deed)
+        self.noted = {word: many for word, many in self.noted.items() if many <= self.many}
+        self.deeds[self.many:] = [deed]
+        self.many += 1
+
+    def undo(self):
+        if self.many == 0:
+            raise NothingToUndo(0)
+        self.many -= 1
+
+    def redo(self):
+        if self.many == len(self.deeds):
+            raise NothingToRedo(self.many)
+        self.many += 1
+
+    def note(self, word):
+        if not plain_is_name(word):
+            raise BadName(word)
+        self.noted[word] = self.many
+
+    def back(self, word):
+        if type(word) is not str or word not in self.noted:
+            raise NoNote(word)
+        self.many = self.noted[word]
+
+    def text(self):
+        lines = ["stand %d" % self.many] + ["note %s %d" % note for note in sorted(self.noted.items())]
+        return "\n".join(lines + [plain_deed_text(deed) for deed in self.deeds])
+
+    def stands(self):
+        """All that can be asked of a desk."""
+        things = self.things()
+        told = [tuple(sorted(things)), len(things), tuple(sorted(self.noted.items())),
+                (tuple(self.deeds[:self.many]), tuple(self.deeds[self.many:])), self.text()]
+        for name, (kind, device, worth) in sorted(things.items()):
+            told.append((name, kind, device.text))
+            told.append({"device": lambda: worth.text, "rule": lambda: worth,
+                         "run": lambda: (worth.slot, worth.script, worth.lanes)}[kind]())
+        return told
+
+
+def plain_deed_text(deed):
+    """The lines of a deed."""
+    if deed[0] == "device":
+        return "device %s %d\n%s" % (deed[1], len(deed[2].split("\n")), deed[2])
+    words = list(deed)
+    if deed[0] == "rule":
+        words[3:] = ["".join(map(str, row)) for row in deed[3]]
+    elif deed[0] == "run":
+        words[3:] = deed[3]
+    elif deed[0] == "slots":
+        words[2:] = ["-" + ",".join(map(str, who)) if type(who) is tuple else who for who in deed[2]]
+    return " ".join(map(str, words))
+
+
+NUMBER, NAME = "(?:0|[1-9][0-9]{0,8})", "[a-z]{1,8}"
+ONE_LINE = "|".join((
+    f"rule {NAME} {NAME}(?: [0-9]+)+", f"least {NAME} {NAME} {NUMBER}", f"run {NAME} {NAME} [^ ]+ {NUMBER}",
+    f"slots {NAME}(?: (?:{NUMBER}|-(?:{NUMBER}(?:,{NUMBER})*)?))+", f"copy {NAME} {NAME}", f"drop {NAME}"))
+
+
+def plain_read_line(line):
+    """The deed of a line that has the form of one."""
+    words = line.split(" ")
+    if words[0] == "rule":
+        return ("rule", words[1], words[2], tuple(tuple(map(int, row)) for row in words[3:]))
+    if words[0] == "least":
+        return ("least", words[1], words[2], int(words[3]))
+    if words[0] == "run":
+        return ("run", words[1], words[2], (words[3], int(words[4])))
+    if words[0] == "slots":
+        whos = [int(who) if who[0] != "-" else tuple(map(int, who[1:].split(","))) if who[1:] else () for who in words[2:]]
+        return ("slots", words[1], tuple(whos))
+    return tuple(words)
+
+
+def plain_bad_line(text):
+    """The number of the first line of a desk's text that cannot stand; None if all can."""
+    lines = text.split("\n")
+    if not re.fullmatch(f"stand {NUMBER}", lines[0]):
+        return 1
+    numbers, words, at, many, things = [int(lines[0].split(" ")[1])], [""], 1, 0, {}
+    while at < len(lines) and re.fullmatch(f"note {NAME} {NUMBER}", lines[at]):
+        if lines[at].split(" ")[1] <= words[-1]:
+            return at + 1
+        words.append(lines[at].split(" ")[1])
+        numbers.append(int(lines[at].split(" ")[2]))
+        at += 1
+    while at < len(lines):
+        first, line = at + 1, lines[at]
+        at += 1
+        if re.fullmatch(f"device {NAME} {NUMBER}", line) and not line.endswith(" 0"):
+            behind = int(line.split(" ")[2])
+            if len(lines) < at + behind:
+                return len(lines) + 1
+            deed = ("device", line.split(" ")[1], "\n".join(lines[at:at + behind]))
+            at += behind
+        elif re.fullmatch(ONE_LINE, line):
+            deed = plain_read_line(line)
+        else:
+            return first
+        try:
+            plain_do(things, deed)
+        except LoopError:
+            return first
+        many += 1
+    return next((line for line, number in enumerate(numbers, start=1) if number > many), None)

@@ -88,6 +88,78 @@ EXAMPLES["figures"] = r"""
 [True, False]
 """
 
+EXAMPLES["sizes"] = r"""
+>>> from queueloops.devices import Device
+>>> from queueloops.sizes import greatest_rule, serving_rules, shows_greatest, why_no_more
+>>> device, alike = Device('stage 0 1\nstage 0 2'), Device('stage 0 1\nstage 0 1')
+>>> [greatest_rule(device, ('queue', n)) for n in (2, 3)]
+[(3, ((0, 0), (1, 0), (0, 1), (1, 1))), (1, ((0, 0), (1, 0)))]
+>>> [why_no_more(device, ('queue', n)) for n in (2, 3)]
+[('lacks', 4), ('gone through', 2)]
+>>> [greatest_rule(alike, ('queue', 2)), why_no_more(alike, ('queue', 2))]
+[(1, ((0, 0), (1, 0))), ('gone through', 2)]
+>>> [shows_greatest(alike, ('queue', 2), (1, rule)) for rule in (((0, 0), (0, 1)), ((0, 0), (1, 0)))]
+[False, True]
+>>> [serving_rules(device, ('queue', 2), size) for size in (0, 3, 4)], [serving_rules(alike, ('queue', 2), size) for size in (1, 2)]
+([1, 1, 0], [1, 0])
+"""
+
+EXAMPLES["likes"] = r"""
+>>> from queueloops.devices import Device
+>>> from queueloops.likes import alike, lane_out, rule_with_lanes, shows_alike, turned, turned_rule, unused_lanes, with_lanes
+>>> device, rule = Device('stage 0 1\nstage 0 2'), ((0, 0), (1, 0), (0, 1), (1, 1))
+>>> [turned(device).text, turned_rule(device, rule)]
+['stage 0 2\nstage 0 1', ((0, 0), (0, 1), (1, 0), (1, 1))]
+>>> [with_lanes(device, 1, (1, 0)).text, rule_with_lanes(device, rule, 1, (1, 0))]
+['stage 0 1\nstage 2 0', ((0, 1), (1, 1), (0, 0), (1, 0))]
+>>> wide = Device('stage 0 9 1\nstage 0 2')
+>>> unused_lanes(wide, ((0, 0), (2, 0), (0, 1), (2, 1)))
+((0, 1),)
+>>> less = lane_out(wide, ((0, 0), (2, 0), (0, 1), (2, 1)), 0, 1)
+>>> [less[0] == device, less[1] == rule]
+[True, True]
+>>> [alike(device, rule, turned(device), turned_rule(device, rule), ('order', 1)), alike(device, rule, device, rule, ('any', 4))]
+[('alike',), ('alike',)]
+>>> alike(device, rule, turned(device), turned_rule(device, rule), ('order', 2))[0]
+'parts'
+>>> back = (turned(device), turned_rule(device, rule))
+>>> [shows_alike(device, rule, *back, ('order', 2), ('parts', ((0, 2),), word)) for word in ('one', 'other')]
+[True, False]
+"""
+
+EXAMPLES["far"] = r"""
+>>> from queueloops.far import came_by, delay_at, first_above, lap_goes, leaves_at, left_by, most_delay, packet_at, waits_at
+>>> first, again = (3, 2), (0, 1, 0)
+>>> [[waits_at(first, again, slot) for slot in range(9)], lap_goes(first, again), most_delay(first, again)]
+[[0, 2, 3, 2, 2, 1, 0, 0, 0], ('round', 2, 0), 3]
+>>> [delay_at(first, again, 1, 1), packet_at(first, again, 5), [leaves_at(first, again, slot) for slot in (0, 4, 5, 6, 7)]]
+[3, (3, 0, 2), [0, 4, 5, 6, None]]
+>>> [first_above(first, again, 2), first_above(first, again, 3), came_by(first, again, 6), left_by(first, again, 6)]
+[(1, 1), None, 6, 6]
+>>> [lap_goes((), (2,)), waits_at((), (2,), 10 ** 18), first_above((), (2,), 10), first_above((), (3, 0), 10 ** 18)]
+[('grows', 0, 1), 1000000000000000000, (10, 1), (1999999999999999998, 2)]
+>>> [lap_goes((4,), (1,)), most_delay((4,), (1,)), lap_goes((), (0,)), most_delay((), (0,))]
+[('round', 0, 3), 3, ('round', 0, 0), -1]
+"""
+
+EXAMPLES["desk"] = r"""
+>>> from queueloops.desk import Desk, desk_text, read_desk
+>>> desk = Desk()
+>>> [desk.lead(('device', 'd', 'stage 0 1\nstage 0 2')), desk.lead(('least', 'r', 'd', 3)), desk.lead(('run', 'q', 'r', ('queue', 2)))]
+[None, None, None]
+>>> [desk.lead(('slots', 'q', (2, 2))), desk.note('two'), desk.lead(('copy', 'q', 'p')), desk.lead(('slots', 'p', (0,)))]
+[None, None, None, None]
+>>> [desk.names, desk.thing_of('q').slot, desk.thing_of('p').script, desk.thing_kind('r'), desk.does_serve('r', ('queue', 3))]
+[('d', 'p', 'q', 'r'), 2, (2, 2, 0), 'rule', False]
+>>> [desk.back('two'), desk.names, desk.all_deeds()[1]]
+[None, ('d', 'q', 'r'), (('copy', 'q', 'p'), ('slots', 'p', (0,)))]
+>>> desk_text(desk).split('\n')
+['stand 4', 'note two 4', 'device d 2', 'stage 0 1', 'stage 0 2', 'least r d 3', 'run q r queue 2', 'slots q 2 2', 'copy q p', 'slots p 0']
+>>> other = read_desk('stand 3\ndevice d 1\nstage 0 1\nrule r d 0 1\nrun o r any 2\nslots o -1,0 - -1')
+>>> [other.redo(), other.thing_of('o').script, desk_text(read_desk(desk_text(desk))) == desk_text(desk)]
+[None, ((1, 0), (), (1,)), True]
+"""
+
 
 class ExamplesTest(unittest.TestCase):
     def test_examples(self):

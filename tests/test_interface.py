@@ -6,6 +6,7 @@ import inspect
 import os
 import unittest
 
+from queueloops.desk import Desk
 from queueloops.devices import Device
 from queueloops.runs import Run
 
@@ -61,12 +62,48 @@ FUNCTIONS = {
         "moved_device": ["device", "order"],
         "moved_rule": ["device", "rule", "order"],
     },
+    "sizes": {
+        "greatest_rule": ["device", "service"],
+        "shows_greatest": ["device", "service", "value"],
+        "why_no_more": ["device", "service"],
+        "serving_rules": ["device", "service", "size"],
+    },
+    "likes": {
+        "turned": ["device"],
+        "turned_rule": ["device", "rule"],
+        "with_lanes": ["device", "stage", "order"],
+        "rule_with_lanes": ["device", "rule", "stage", "order"],
+        "unused_lanes": ["device", "rule"],
+        "lane_out": ["device", "rule", "stage", "lane"],
+        "alike": ["device", "rule", "other", "other_rule", "service"],
+        "shows_alike": ["device", "rule", "other", "other_rule", "service", "value"],
+    },
+    "far": {
+        "came_by": ["first", "again", "slot"],
+        "left_by": ["first", "again", "slot"],
+        "waits_at": ["first", "again", "slot"],
+        "delay_at": ["first", "again", "slot", "place"],
+        "packet_at": ["first", "again", "number"],
+        "leaves_at": ["first", "again", "slot"],
+        "lap_goes": ["first", "again"],
+        "most_delay": ["first", "again"],
+        "first_above": ["first", "again", "size"],
+    },
+    "desk": {
+        "desk_text": ["desk"],
+        "read_desk": ["text"],
+    },
 }
 
 CLASSES = {"errors": ERRORS, "devices": ["Device"], "services": [], "runs": ["Run"], "pairs": [], "tables": [],
-           "figures": []}
+           "figures": [], "sizes": [], "likes": [], "far": [], "desk": ["Desk"]}
 METHODS = {"Device": {"__init__": ["self", "text"], "__len__": ["self"], "__eq__": ["self", "other"]},
-           "Run": {"__init__": ["self", "device", "rule", "service"], "go_on": ["self", "who"], "copy": ["self"]}}
+           "Run": {"__init__": ["self", "device", "rule", "service"], "go_on": ["self", "who"], "copy": ["self"]},
+           "Desk": {"__init__": ["self"], "__len__": ["self"], "__contains__": ["self", "value"],
+                    "lead": ["self", "deed"], "thing_of": ["self", "name"], "thing_kind": ["self", "name"],
+                    "device_of": ["self", "name"], "does_serve": ["self", "rule", "service"], "undo": ["self"],
+                    "redo": ["self"], "note": ["self", "word"], "notes": ["self"], "back": ["self", "word"],
+                    "all_deeds": ["self"]}}
 
 
 def tree_of(module):
@@ -97,7 +134,7 @@ class InterfaceTest(unittest.TestCase):
             self.assertEqual(sorted(defined), sorted(classes))
 
     def test_methods_are_defined_in_their_classes(self):
-        for module in ("devices", "runs"):
+        for module in ("devices", "runs", "desk"):
             for node in tree_of(module).body:
                 if isinstance(node, ast.ClassDef):
                     defined = {each.name: each for each in node.body if isinstance(each, ast.FunctionDef)}
@@ -113,9 +150,13 @@ class InterfaceTest(unittest.TestCase):
         run = Run(service=("any", 1), rule=((0,),), device=Device("stage 0 1"))
         self.assertEqual(run.go_on(who=()), ((), (), ()))
 
+    def test_desk_takes_no_parameters(self):
+        self.assertEqual(list(inspect.signature(Desk).parameters), [])
+
     def test_attributes_are_set_when_objects_are_created(self):
         objects = {"text stages": Device("stage 0 1"),
-                   "slot script lanes": Run(Device("stage 0 1"), ((0,),), ("any", 1))}
+                   "slot script lanes": Run(Device("stage 0 1"), ((0,),), ("any", 1)),
+                   "names": Desk()}
         for names, thing in objects.items():
             for name in names.split():
                 self.assertIn(name, vars(thing))

@@ -20,7 +20,7 @@ namedtuple NamedTuple TypedDict TYPE_CHECKING abstractmethod""".split()
 NAMES_LEFT_OUT = """register mro elements open input law version_info with_traceback add_note attrgetter breakpoint
 compile copyright credits delattr dir eval exec exit gc getattr globals hasattr help id importlib license locals
 methodcaller os quit setattr super vars sys""".split()
-SPECIAL = ["__init__", "__len__", "__eq__"]
+SPECIAL = ["__init__", "__len__", "__eq__", "__contains__"]
 
 
 def files():
@@ -91,10 +91,19 @@ class LanguageTest(unittest.TestCase):
                 if isinstance(node, ast.Expr):
                     self.assertEqual(at, 0, name)
                 elif isinstance(node, ast.Assign):
-                    self.assertIsInstance(ast.literal_eval(node.value), (int, str, tuple, list, dict))
                     self.assertEqual([len(node.targets), type(node.targets[0])], [1, ast.Name])
+                    self.check_plain(node, [each.name for each in tree_of(name).body[:at]
+                                            if isinstance(each, ast.FunctionDef)])
                 else:
                     self.assertIsInstance(node, (ast.ImportFrom, ast.FunctionDef, ast.ClassDef), name)
+
+    def check_plain(self, node, functions):
+        """A plain value, or a table of functions that are defined above it."""
+        if isinstance(node.value, ast.Dict) and isinstance(node.value.values[0], ast.Name):
+            for each in node.value.values:
+                self.assertIn(each.id, functions)
+        else:
+            self.assertIsInstance(ast.literal_eval(node.value), (int, str, tuple, list, dict))
 
     def test_imports_name_the_file_that_defines(self):
         for name, node in nodes((ast.Import, ast.ImportFrom)):
@@ -210,6 +219,30 @@ class LanguageTest(unittest.TestCase):
         for name, node in nodes(ast.Call):
             if isinstance(node.func, ast.Attribute):
                 self.assertTrue(node.func.attr in METHODS or node.func.attr in own, node.func.attr)
+
+    def test_attributes_and_methods_have_names_of_their_own(self):
+        left_out = """items keys values pop update append clear extend insert remove reverse setdefault sort args encode
+                      decode hex fromhex format""".split()
+        for name, node in nodes(ast.ClassDef):
+            methods = [each.name for each in node.body if isinstance(each, ast.FunctionDef)]
+            self.assertEqual(len(set(methods)), len(methods), node.name)
+            for each in ast.walk(node):
+                if isinstance(each, ast.Attribute) and isinstance(each.ctx, ast.Store):
+                    self.assertNotIn(each.attr, methods + left_out, node.name)
+
+    def test_keywords_are_passed_to_own_functions_only(self):
+        """But for those of sorted, min, max, enumerate and zip that the subset lets."""
+        own = [node.name for _, node in nodes((ast.FunctionDef, ast.ClassDef))]
+        for name, node in nodes(ast.Call):
+            called = node.func.id if isinstance(node.func, ast.Name) else None
+            if called not in own and node.keywords:
+                self.assertIn(called, ("sorted", "min", "max", "enumerate", "zip"), name)
+
+    def test_handlers_name_own_errors(self):
+        own = [node.name for file, node in nodes(ast.ClassDef) if file == "errors.py"]
+        for name, node in nodes(ast.ExceptHandler):
+            self.assertIn(node.type.id, own, name)
+            self.assertIsNone(node.name, name)
 
     def test_words_that_are_left_out(self):
         for name in files():

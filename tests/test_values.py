@@ -2,7 +2,7 @@ import unittest
 from itertools import permutations
 
 from plain import odd_values
-from queueloops.values import is_number, is_order, is_within, read_number
+from queueloops.values import is_name, is_number, is_order, is_within, read_number
 
 
 class ValuesTest(unittest.TestCase):
@@ -26,6 +26,13 @@ class ValuesTest(unittest.TestCase):
                 self.assertIs(is_order(order + (many,), many), False)
         for value in odd_values() + [(0, 0), (1, 1), (1, 2), (-1, 0), (False, 1), (0, True), (0, None), (0, 1.0)]:
             self.assertIs(is_order(value, 2), False)
+
+    def test_names(self):
+        for value in ("a", "z", "az", "abcdefgh", "zzzzzzzz", "queue", "stage"):
+            self.assertIs(is_name(value), True)
+        words = ["", "A", "aB", "a b", " a", "a ", "a\n", "\na", "a1", "1", "a_", "a-b", "abcdefghi", "a" * 1000, "`", "{"]
+        for value in words + [0, 1, ("a",), ["a"], b"a"] + [value for value in odd_values() if value != "queue"]:
+            self.assertIs(is_name(value), False)
 
     def test_numbers_in_texts(self):
         for number in (0, 1, 9, 10, 100, 1000000, 999999999):
