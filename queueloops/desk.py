@@ -78,10 +78,10 @@ def by_slots(things, deed):
     _, device, run = thing_as(things, "run", name)
     if not isinstance(whos, tuple) or not 1 <= len(whos) <= MOST_WHOS:
         raise BadSlots(whos)
-    led_on = run.copy()
+    longer = run.copy()
     for who in whos:
-        led_on.go_on(who)
-    return name, ("run", device, led_on)
+        longer.go_on(who)
+    return name, ("run", device, longer)
 
 
 def by_copy(things, deed):
